@@ -1,0 +1,1 @@
+"""What was known when: entries by three centres, handed on in any order."""
