@@ -1,10 +1,12 @@
 """The calls on one set of centres, and their answers."""
 
 from knownwhendesk.desk import Desk
-from knownwhendesk.entry import entry_told, latest, stamp_of, value_at
-from knownwhendesk.forms import numbers_behind
-from knownwhendesk.lines import changes_between, line_of
+from knownwhendesk.entry import entry_told, latest, stamp_of, stamps_known_by, whole_entry
+from knownwhendesk.forms import call_at
+from knownwhendesk.lines import changes_between, line_of, minutes_with
 from knownwhendesk.refusals import NONE_DUE, refusal
+from knownwhendesk.rows import pieces_of
+from knownwhendesk.strokes import fewest_strokes
 
 
 def counted(rows):
@@ -42,27 +44,27 @@ def sync(desk, numbers):
 
 
 def knows(desk, numbers):
-    entries = desk.centres[numbers["c"]].entries
-    return entry_told(latest(entries, numbers["k"], numbers["m"]))
+    centre = desk.centres[numbers["c"]]
+    return entry_told(latest(centre.entries, numbers["k"], numbers["m"]))
 
 
 def knew(desk, numbers):
-    entries = desk.centres[numbers["c"]].at_tick(numbers["n"])
-    return entry_told(latest(entries, numbers["k"], numbers["m"]))
+    centre = desk.centres[numbers["c"]]
+    return entry_told(latest(centre.at_tick(numbers["n"]), numbers["k"], numbers["m"]))
 
 
 def line(desk, numbers):
-    entries = desk.centres[numbers["c"]].at_tick(numbers["n"])
-    return counted(line_of(entries, numbers["k"], numbers["a"], numbers["b"]))
+    centre = desk.centres[numbers["c"]]
+    return counted(line_of(centre.at_tick(numbers["n"]), numbers["k"], numbers["a"], numbers["b"]))
 
 
 def since(desk, numbers):
     centre = desk.centres[numbers["c"]]
     key = numbers["k"]
     minute = numbers["m"]
-    now = value_at(centre.entries, key, minute)
+    now = centre.knows(key, minute)
     tick = centre.tick_now()
-    while tick > 0 and value_at(centre.at_tick(tick - 1), key, minute) == now:
+    while tick > 0 and centre.knew(tick - 1, key, minute) == now:
         tick = tick - 1
     return [now, tick]
 
@@ -79,11 +81,79 @@ def decide(desk, numbers):
     key = numbers["k"]
     minute = numbers["m"]
     desk.decide(numbers["j"], c, key, minute)
-    return [0, value_at(desk.centres[c].entries, key, minute)]
+    return [0, desk.centres[c].knows(key, minute)]
+
+
+def wrong(desk, numbers):
+    c = numbers["c"]
+    centre = desk.centres[c]
+    rows = []
+    for decision in [made for made in desk.decisions if made.centre == c]:
+        then = centre.knew(decision.tick, decision.key, decision.minute)
+        now = centre.knows(decision.key, decision.minute)
+        if then != now:
+            rows.append((decision.number, then, now))
+    return counted(rows)
+
+
+def unlike(desk, numbers):
+    one = desk.centres[numbers["c"]]
+    other = desk.centres[numbers["d"]]
+    only_one = [entry for entry in one.entries if not other.has(entry)]
+    only_other = [entry for entry in other.entries if not one.has(entry)]
+    return [len(only_one), len(only_other)]
+
+
+def all_entries(desk, numbers):
+    centre = desk.centres[numbers["c"]]
+    return [centre.clock] + counted([whole_entry(entry) for entry in centre.entries])
+
+
+def fewest(desk, numbers):
+    centre = desk.centres[numbers["c"]]
+    return counted(fewest_strokes(centre.entries, numbers["k"], numbers["a"], numbers["b"], numbers["shall"]))
+
+
+def painted(desk, numbers):
+    key = numbers["k"]
+    strokes = pieces_of(numbers["strokes"], 3)
+    would_have = desk.centres[numbers["c"]].entries_if_written(key, strokes)
+    return counted(line_of(would_have, key, numbers["a"], numbers["b"]))
+
+
+def howlong(desk, numbers):
+    centre = desk.centres[numbers["c"]]
+    had = centre.at_tick(numbers["n"])
+    return [minutes_with(had, numbers["k"], numbers["a"], numbers["b"], numbers["v"])]
+
+
+def differ(desk, numbers):
+    one = desk.centres[numbers["c"]].entries
+    other = desk.centres[numbers["d"]].entries
+    return counted(changes_between(one, other, numbers["k"], numbers["a"], numbers["b"]))
+
+
+def hidden(desk, numbers):
+    centre = desk.centres[numbers["c"]]
+    seen = stamps_known_by(centre.entries)
+    return counted([stamp_of(entry) for entry in centre.entries if stamp_of(entry) not in seen])
+
+
+def first(desk, numbers):
+    return [desk.centres[numbers["c"]].first_tick(numbers["k"], numbers["m"], numbers["v"])]
+
+
+def asof(desk, numbers):
+    centre = desk.centres[numbers["c"]]
+    early = [entry for entry in centre.entries if entry.clock <= numbers["clock"]]
+    return entry_told(latest(early, numbers["k"], numbers["m"]))
 
 
 # By place, from 0 on, as in FORMS.
-ANSWERERS = (begin, write, hand, sync, knows, knew, line, since, changed, decide)
+ANSWERERS = (
+    begin, write, hand, sync, knows, knew, line, since, changed, decide,
+    wrong, unlike, all_entries, fewest, painted, howlong, differ, hidden, first, asof,
+)
 
 
 def answer_to(desk, place, numbers):
@@ -100,9 +170,9 @@ def answers(calls):
     given = []
     at = 0
     while at < len(calls):
-        numbers = numbers_behind(calls, at)
-        answer = answer_to(desk, calls[at], numbers)
+        call = call_at(calls, at)
+        answer = answer_to(desk, call.place, call.numbers)
         given.append(len(answer))
         given.extend(answer)
-        at = at + 1 + len(numbers)
+        at = call.end
     return given

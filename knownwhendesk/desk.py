@@ -1,6 +1,6 @@
 """What is kept: three centres with their entries, and the decisions."""
 
-from knownwhendesk.entry import Entry, stamp_of
+from knownwhendesk.entry import Entry, stamp_of, value_at
 
 
 class Centre:
@@ -21,6 +21,19 @@ class Centre:
     def has(self, entry):
         return stamp_of(entry) in [stamp_of(own) for own in self.entries]
 
+    def knew(self, tick, key, minute):
+        return value_at(self.at_tick(tick), key, minute)
+
+    def knows(self, key, minute):
+        return value_at(self.entries, key, minute)
+
+    def first_tick(self, key, minute, value):
+        """The least tick at which the centre knew the value; None if at no tick."""
+        for tick in range(self.tick_now() + 1):
+            if self.knew(tick, key, minute) == value:
+                return tick
+        return None
+
     def write(self, key, a, b, value):
         self.clock = self.clock + 1
         entry = Entry(self.clock, self.number, key, a, b, value)
@@ -34,6 +47,13 @@ class Centre:
         self.entries.append(entry)
         self.clock = max(self.clock, entry.clock)
         return 1
+
+    def entries_if_written(self, key, strokes):
+        """The entries that the centre would have if it wrote these (from, up to, value); it writes none."""
+        would_have = list(self.entries)
+        for clock, stroke in enumerate(strokes, start=self.clock + 1):
+            would_have.append(Entry(clock, self.number, key, stroke[0], stroke[1], stroke[2]))
+        return would_have
 
 
 class Decision:

@@ -39,7 +39,23 @@ def value_at(entries, key, minute):
     return found.value
 
 
+def stamps_known_by(entries):
+    """The stamps of those entries that are the latest at one of their minutes, each with True."""
+    found = {}
+    for entry in entries:
+        # Where another entry begins to be the latest, one begins or one ends.
+        for minute in (entry.from_minute, entry.up_to):
+            by = latest(entries, entry.key, minute)
+            if by is not None:
+                found[stamp_of(by)] = True
+    return found
+
+
 def entry_told(entry):
     if entry is None:
         return [0, 0, 0]
     return [entry.value, entry.clock, entry.source]
+
+
+def whole_entry(entry):
+    return [entry.clock, entry.source, entry.key, entry.from_minute, entry.up_to, entry.value]

@@ -22,10 +22,22 @@ def joined(pieces):
     return runs
 
 
+def stretches(runs, b):
+    """Each run with its end: from, up to, what is told there."""
+    ends = [run[0] for run in runs[1:]] + [b]
+    return [(run[0], end, run[1]) for run, end in zip(runs, ends)]
+
+
 def line_of(entries, key, a, b):
     """The runs of what the entries tell: pairs of a minute and a value."""
     minutes = starts(entries, key, a, b)
     return joined([(minute, value_at(entries, key, minute)) for minute in minutes])
+
+
+def minutes_with(entries, key, a, b, value):
+    """At how many minutes of the window the entries tell the value."""
+    told = stretches(line_of(entries, key, a, b), b)
+    return sum([stretch[1] - stretch[0] for stretch in told if stretch[2] == value])
 
 
 def changes_between(one, other, key, a, b):
@@ -34,11 +46,9 @@ def changes_between(one, other, key, a, b):
     for minute in starts(one + other, key, a, b):
         pieces.append((minute, (value_at(one, key, minute), value_at(other, key, minute))))
     # Joined before the like ones are left out: a like stretch between two unlike ones keeps them apart.
-    runs = joined(pieces)
-    ends = [run[0] for run in runs[1:]] + [b]
-    stretches = []
-    for run, end in zip(runs, ends):
-        both = run[1]
+    changes = []
+    for stretch in stretches(joined(pieces), b):
+        both = stretch[2]
         if both[0] != both[1]:
-            stretches.append((run[0], end, both[0], both[1]))
-    return stretches
+            changes.append((stretch[0], stretch[1], both[0], both[1]))
+    return changes
